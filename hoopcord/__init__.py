@@ -1,0 +1,1 @@
+"""Hoopcord: shapes of a cord whose hoops never cross."""
