@@ -4,12 +4,8 @@ import copy
 import unittest
 
 from hoopcord.cords import all_pairs, is_cord, may_hoop
+from listing import book_of
 from samples import BOOK, GREATEST_BOOK, HUGE, LEAST_BOOK, LETTERS, NO_TEXTS, SIGNS, kinds_alike, with_part
-
-
-def book_of(gap, *hoops):
-    """Tell a book of a gap and hoops of which each costs 1."""
-    return (gap, tuple((x, y, 1) for x, y in hoops), (), (0,), (0,), (0, 0, 0))
 
 
 class IsCord(unittest.TestCase):

@@ -1,0 +1,60 @@
+"""Shapes found by trying every set of pairs, as the document tells them word by word."""
+
+import itertools
+
+
+def book_of(gap, *hoops):
+    """Tell a book of a gap and hoops of which each costs 1."""
+    return (gap, tuple((x, y, 1) for x, y in hoops), (), (0,), (0,), (0, 0, 0))
+
+
+def hoopable(book, cord):
+    """Tell the pairs of spots that may be hooped."""
+    letters = {(x, y) for x, y, price in book[1]}
+    return [
+        (i, j) for i, j in itertools.combinations(range(len(cord)), 2)
+        if j - i - 1 >= book[0] and (cord[i], cord[j]) in letters
+    ]
+
+
+def are_side_by_side_or_nested(pairs):
+    """Tell whether no two of the pairs share a spot or cross."""
+    for (i, j), (k, m) in itertools.permutations(pairs, 2):
+        if {i, j} & {k, m} or i < k < j < m:
+            return False
+    return True
+
+
+def shapes_of_pairs(pairs):
+    """Tell every choice among the pairs in which no two share a spot or cross."""
+    chosen = [()]
+    for pair in sorted(pairs):
+        chosen += [shape + (pair,) for shape in chosen if are_side_by_side_or_nested(shape + (pair,))]
+    return chosen
+
+
+def row_by_hand(many, shape):
+    """Tell the row of a shape, spot by spot."""
+    partners = dict(shape)
+    partners.update((j, i) for i, j in shape)
+    return [partners.get(spot, -1) for spot in range(many)]
+
+
+def all_shapes(book, cord):
+    """Tell every shape of the cord and book, in the order of their rows."""
+    return sorted(shapes_of_pairs(hoopable(book, cord)), key=lambda shape: row_by_hand(len(cord), shape))
+
+
+def bare_shapes(many):
+    """Tell every rising tuple of pairs of spots below many that share no spot and don't cross."""
+    return shapes_of_pairs(itertools.combinations(range(many), 2))
+
+
+def nested(many):
+    """Tell the hoops of many spots that lie each within the one before."""
+    return tuple((spot, many - 1 - spot) for spot in range(many // 2))
+
+
+def in_a_row(many):
+    """Tell the hoops of many spots that lie side by side, each of two neighbours."""
+    return tuple((spot, spot + 1) for spot in range(0, many - 1, 2))
