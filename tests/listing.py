@@ -58,3 +58,33 @@ def nested(many):
 def in_a_row(many):
     """Tell the hoops of many spots that lie side by side, each of two neighbours."""
     return tuple((spot, spot + 1) for spot in range(0, many - 1, 2))
+
+
+def ring_by_hand(many, shape, hoop):
+    """Tell the ring as the document tells it, pair by pair and spot by spot."""
+    i, j = (-1, many) if hoop is None else hoop
+    between = [(k, m) for k, m in shape if i < k and m < j]
+    hoops = [
+        (k, m) for k, m in between
+        if not any(other[0] < k and m < other[1] for other in between)
+    ]
+    free = [spot for spot in range(i + 1, j) if not any(k <= spot <= m for k, m in hoops)]
+    return (hoops, free)
+
+
+# Small cords with all their shapes, written by hand, in the order of their rows.
+LISTED = (
+    (book_of(0, "ab"), "ab", ["..", "()"]),
+    (book_of(0, "ab"), "ba", [".."]),
+    (book_of(0, "ab", "ba"), "ba", ["..", "()"]),
+    (book_of(0, "ab"), "aab", ["...", ".()", "(.)"]),
+    (book_of(0, "ab"), "aabb", ["....", ".().", ".(.)", "(.).", "(..)", "(())"]),
+    (book_of(1, "ab"), "aabb", ["....", ".(.)", "(.).", "(..)"]),
+    (book_of(2, "ab"), "aabb", ["....", "(..)"]),
+    (book_of(3, "ab"), "aabb", ["...."]),
+    (book_of(0, "ab"), "abab", ["....", "..()", "()..", "()()", "(..)"]),
+    (book_of(0, "aa"), "aaa", ["...", ".()", "().", "(.)"]),
+    (book_of(0, "aa"), "aaaa", ["....", "..()", ".().", ".(.)", "()..", "()()", "(.).", "(..)", "(())"]),
+    (book_of(0, "ab", "cd"), "cabd", ["....", ".().", "(..)", "(())"]),
+    (book_of(0, "ab", "cd"), "acbd", ["....", ".(.)", "(.)."]),
+)

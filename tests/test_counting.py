@@ -7,7 +7,7 @@ import unittest
 
 from hoopcord.counting import how_many
 from hoopcord.shapes import is_shape
-from listing import all_shapes, book_of
+from listing import LISTED, all_shapes, book_of
 from samples import BOOK, GREATEST_BOOK, LEAST_BOOK, kinds_alike, with_part
 
 # How many shapes 0, 1, 2 .. letters alike have, by gap.
@@ -20,23 +20,6 @@ BY_GAP = {
     5: [1, 1, 1, 1, 1, 1, 1, 2, 4, 8, 16],
     6: [1, 1, 1, 1, 1, 1, 1, 1, 2, 4, 8],
 }
-
-# Small cords with all their shapes, written by hand.
-LISTED = (
-    (book_of(0, "ab"), "ab", ["..", "()"]),
-    (book_of(0, "ab"), "ba", [".."]),
-    (book_of(0, "ab", "ba"), "ba", ["..", "()"]),
-    (book_of(0, "ab"), "aab", ["...", ".()", "(.)"]),
-    (book_of(0, "ab"), "aabb", ["....", ".().", ".(.)", "(.).", "(..)", "(())"]),
-    (book_of(1, "ab"), "aabb", ["....", ".(.)", "(.).", "(..)"]),
-    (book_of(2, "ab"), "aabb", ["....", "(..)"]),
-    (book_of(3, "ab"), "aabb", ["...."]),
-    (book_of(0, "ab"), "abab", ["....", "..()", "()..", "()()", "(..)"]),
-    (book_of(0, "aa"), "aaa", ["...", ".()", "().", "(.)"]),
-    (book_of(0, "aa"), "aaaa", ["....", "..()", ".().", ".(.)", "()..", "()()", "(.).", "(..)", "(())"]),
-    (book_of(0, "ab", "cd"), "cabd", ["....", ".().", "(..)", "(())"]),
-    (book_of(0, "ab", "cd"), "acbd", ["....", "(.).", ".(.)"]),
-)
 
 
 class HowMany(unittest.TestCase):

@@ -4,20 +4,8 @@ import copy
 import unittest
 
 from hoopcord.rings import ring_of
-from listing import bare_shapes, in_a_row, nested
+from listing import bare_shapes, in_a_row, nested, ring_by_hand
 from samples import kinds_alike
-
-
-def ring_by_hand(many, shape, hoop):
-    """Tell the ring as the document tells it, pair by pair and spot by spot."""
-    i, j = (-1, many) if hoop is None else hoop
-    between = [(k, m) for k, m in shape if i < k and m < j]
-    hoops = [
-        (k, m) for k, m in between
-        if not any(other[0] < k and m < other[1] for other in between)
-    ]
-    free = [spot for spot in range(i + 1, j) if not any(k <= spot <= m for k, m in hoops)]
-    return (hoops, free)
 
 
 class RingOf(unittest.TestCase):
