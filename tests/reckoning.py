@@ -1,5 +1,7 @@
 """Prices and tables reckoned as the document tells them, and many books to reckon with."""
 
+import collections
+import fractions
 import random
 
 from listing import all_shapes, hoopable, ring_by_hand
@@ -37,6 +39,37 @@ def price_by_hand(book, cord, shape):
 def least_by_hand(book, cord):
     """Tell the least price of all shapes."""
     return min(price_by_hand(book, cord, shape) for shape in all_shapes(book, cord))
+
+
+def prices_by_hand(book, cord):
+    """Tell every shape with its price, in the order of their rows."""
+    return [(shape, price_by_hand(book, cord, shape)) for shape in all_shapes(book, cord)]
+
+
+def counted(prices):
+    """Tell how many times each price is there, rising."""
+    return sorted(collections.Counter(prices).items())
+
+
+def weights_by_hand(book, cord, base):
+    """Tell every shape with its weight by a base."""
+    priced = prices_by_hand(book, cord)
+    top = max(price for shape, price in priced)
+    return [(shape, base ** (top - price)) for shape, price in priced]
+
+
+def part_by_hand(weighed, picked):
+    """Tell the fraction of the weights of picked shapes by all weights."""
+    part = fractions.Fraction(
+        sum(weight for shape, weight in weighed if picked(shape)), sum(weight for shape, weight in weighed),
+    )
+    return (part.numerator, part.denominator)
+
+
+def mean_by_hand(weighed, shape):
+    """Tell how far a shape is from all of those weighed in the mean."""
+    apart = sum(weight * len(set(shape).symmetric_difference(other)) for other, weight in weighed)
+    return fractions.Fraction(apart, sum(weight for other, weight in weighed))
 
 
 def form_by_hand(book, cord):
