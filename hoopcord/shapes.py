@@ -20,16 +20,19 @@ def follows(hoop, other):
     return other[0] < hoop[0] and (other[1] < hoop[0] or hoop[1] < other[1])
 
 
+def lie_apart(hoops):
+    """Tell whether the hoops rise, and no two share a spot or cross."""
+    for at, hoop in enumerate(hoops):
+        if not all([follows(hoop, other) for other in hoops[:at]]):
+            return False
+    return True
+
+
 def is_shape(book, cord, thing):
     """Tell of anything whether it is a shape of the cord and book."""
     if not isinstance(thing, tuple):
         return False
-    for at, hoop in enumerate(thing):
-        if not is_hoop(book, cord, hoop):
-            return False
-        if not all([follows(hoop, other) for other in thing[:at]]):
-            return False
-    return True
+    return all([is_hoop(book, cord, hoop) for hoop in thing]) and lie_apart(thing)
 
 
 def row_of(many, shape):

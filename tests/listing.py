@@ -50,6 +50,28 @@ def bare_shapes(many):
     return shapes_of_pairs(itertools.combinations(range(many), 2))
 
 
+def full_shapes(many):
+    """Tell every full shape of many spots, in the order of their rows."""
+    if many == 0:
+        return [()]
+    told = []
+    for partner in range(1, many, 2):
+        for within in full_shapes(partner - 1):
+            for behind in full_shapes(many - partner - 1):
+                inner = tuple((i + 1, j + 1) for i, j in within)
+                outer = tuple((i + partner + 1, j + partner + 1) for i, j in behind)
+                told.append(((0, partner),) + inner + outer)
+    return told
+
+
+FELLOWS = set("ab ba cd dc ef fe gh hg ij ji kl lk mn nm op po qr rq st ts uv vu wx xw yz zy".split())
+
+
+def full_by_hand(cord):
+    """Tell every full shape of a cord, in the order of their rows."""
+    return [shape for shape in full_shapes(len(cord)) if all(cord[i] + cord[j] in FELLOWS for i, j in shape)]
+
+
 def nested(many):
     """Tell the hoops of many spots that lie each within the one before."""
     return tuple((spot, many - 1 - spot) for spot in range(many // 2))

@@ -22,7 +22,8 @@ TOLD_APART = (0, (("a", "b", 0), ("c", "d", 0)), (("a", "b", "c", "d", 9),), (1,
 
 # The widest range of prices that twenty letters alike have.
 WIDE = (
-    0, (("a", "a", 9),), (("a", "a", "a", "a", -9),), (9, -9, 8, -7, 6, 3, 2, 5), (-9, 9, -8, 7, 4, 1, 2, 3), (9, -9, 2),
+    0, (("a", "a", 9),), (("a", "a", "a", "a", -9),),
+    (9, -9, 8, -7, 6, 3, 2, 5), (-9, 9, -8, 7, 4, 1, 2, 3), (9, -9, 2),
 )
 
 ASKED = [(book, cord) for book in (BOOK, GAPLESS, GREATEST_BOOK, LEAST_BOOK, book_of(0, "ab", "ba", "ee"))
